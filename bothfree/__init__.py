@@ -1,0 +1,1 @@
+"""Bothfree: lots of things that are free in one family, in two and in many."""

@@ -1,0 +1,197 @@
+"""Points 0.2 to 0.5, 0.7 and 0.8 over all functions: what is passed and told is free, and equal calls tell the same."""
+
+import copy
+import unittest
+
+from bothfree.errors import BadLot, LotError, UnlikeThings
+from bothfree.families import Family, alike, bases, free_lots, is_ring, listed, ring_of, rings
+from bothfree.hires import Hires, hire, hire_most, hires_family, other_side, short
+from bothfree.webs import Web, cut_of, is_cut, pieces, ring_in, ties_family
+from tests.helpers import Telling, bakers, even, some_families, told, triangle_web
+
+
+def spoil(value):
+    """Empty every list and dict in a value."""
+    if isinstance(value, (list, tuple)):
+        for part in value:
+            spoil(part)
+    if isinstance(value, dict):
+        for part in value.values():
+            spoil(part)
+    if isinstance(value, (list, dict)):
+        value.clear()
+
+
+def web_arguments():
+    return [["b", "a", "c"], {"z": ("c", "a"), "x": ("a", "b"), "y": ("b", "c"), "l": ("c", "c")}]
+
+
+def hires_arguments():
+    return [["cat", "bob", "ann"], {"cat": ["cook", "bake"], "bob": ["bake"], "ann": ["bake"]}]
+
+
+def listed_arguments():
+    return [["c", "b", "a", "d"], [["c", "b"], ["b", "a"], ["a", "c"]]]
+
+
+def asked_of_web(web):
+    """Return calls with their arguments; each list of arguments begins with the function."""
+    return [[web.places], [web.ties], [web.ends, "x"], [pieces, web, ["x", "l"]], [ring_in, web, ["z", "y", "x"]],
+            [cut_of, web, ["b"]], [is_cut, web, ["y", "x"]], *asked_of_family(ties_family(web), ["z", "x"], "y")]
+
+
+def asked_of_hires(hires):
+    return [[hires.people], [hires.jobs_of, "cat"], [hire, hires, ["cat", "bob"]],
+            [short, hires, ["cat", "bob", "ann"]], [hire_most, hires, ["cat", "bob", "ann"]],
+            [lambda: told_of_hires(other_side(hires))],
+            *asked_of_family(hires_family(hires), ["cat", "bob"], "ann")]
+
+
+def told_of_hires(hires):
+    return hires.people(), [hires.jobs_of(person) for person in hires.people()]
+
+
+def asked_of_family(family, lot, thing):
+    return [[family.things], [family.rank, lot], [family.is_free, lot], [family.is_base, lot], [family.span, lot],
+            [family.base], [family.stuck], [family.sure], [ring_of, family, lot, thing], [is_ring, family, lot],
+            [free_lots, family], [rings, family], [bases, family], [alike, family, even(len(family), 1)]]
+
+
+def answer(call):
+    try:
+        return call[0](*call[1:])
+    except LotError as error:
+        return told(error)
+
+
+MADE = [(Web, web_arguments, asked_of_web), (Hires, hires_arguments, asked_of_hires),
+        (listed, listed_arguments, lambda family: asked_of_family(family, ["c", "a"], "b"))]
+
+
+class Point_0_2(unittest.TestCase):
+    def test_what_was_passed_is_not_kept(self):
+        for make, arguments, asked in MADE:
+            passed = arguments()
+            made = make(*passed)
+            before = [answer(call) for call in asked(make(*arguments()))]
+            spoil(passed)
+            self.assertEqual([answer(call) for call in asked(made)], before)
+
+    def test_what_was_passed_is_not_changed(self):
+        for make, arguments, asked in MADE:
+            passed = arguments()
+            made = make(*passed)
+            self.assertEqual(passed, arguments())
+            for call in asked(made):
+                lots = [argument for argument in call if isinstance(argument, list)]
+                before = copy.deepcopy(lots)
+                spoil(answer(call))
+                self.assertEqual(lots, before)
+
+    def test_what_was_told_is_new(self):
+        for make, arguments, asked in MADE:
+            made = make(*arguments())
+            calls = asked(made)
+            before = [copy.deepcopy(answer(call)) for call in calls]
+            for call in calls:
+                spoil(answer(call))
+            self.assertEqual([answer(call) for call in calls], before)
+            self.assertEqual([answer(call) for call in asked(made)], before)
+
+    def test_the_values_of_an_error_are_new(self):
+        lots = [["b", "a"], ["c", "d"]]
+        try:
+            listed(["a", "b", "c", "d"], lots)
+        except LotError as error:
+            spoil([error.one, error.other])
+        self.assertEqual(lots, [["b", "a"], ["c", "d"]])
+
+    def test_lots_of_one_answer_do_not_hang_together(self):
+        for ask in (free_lots, rings, bases):
+            lots = ask(ties_family(triangle_web()))
+            before = copy.deepcopy(lots)
+            lots[-1].append("more")
+            self.assertEqual(lots[:-1], before[:-1])
+
+
+class Point_0_3(unittest.TestCase):
+    def test_an_error_changes_nothing(self):
+        family = ties_family(triangle_web())
+        before = [answer(call) for call in asked_of_family(family, ["x"], "y")]
+        for call in ([family.rank, ["x", "x"]], [ring_of, family, ["l"], "x"], [ring_of, family, ["x"], "none"]):
+            self.assertIsInstance(answer(call), tuple)
+        self.assertEqual([answer(call) for call in asked_of_family(family, ["x"], "y")], before)
+
+
+class Point_0_4(unittest.TestCase):
+    def test_equal_calls_on_equal_objects_tell_the_same(self):
+        for make, arguments, asked in MADE:
+            one = make(*arguments())
+            other = make(*[turned_about(argument) for argument in arguments()])
+            for _ in range(2):
+                self.assertEqual([answer(call) for call in asked(one)], [answer(call) for call in asked(other)])
+
+    def test_earlier_calls_mean_nothing(self):
+        asked = bakers()
+        for lot in (["cat"], ["bob", "cat"], ["cat", "ann", "bob"]):
+            hire_most(asked, lot)
+        for lot in (["cat"], ["ann", "cat"], ["ann", "bob", "cat"]):
+            self.assertEqual(hire_most(asked, lot), hire_most(bakers(), lot))
+
+
+def turned_about(value):
+    """Return a value with the entries of all lists, tuples and dicts the other way round."""
+    if isinstance(value, dict):
+        return {key: turned_about(part) for key, part in reversed(list(value.items()))}
+    if isinstance(value, (list, tuple)):
+        return value.__class__([turned_about(part) for part in reversed(value)])
+    return value
+
+
+class Point_0_5(unittest.TestCase, Telling):
+    def test_told_lots_are_sorted(self):
+        for family, _ in some_families():
+            told_lots = [family.things(), family.base(), family.stuck(), family.sure(), family.span([])]
+            for lot in told_lots + free_lots(family) + rings(family) + bases(family):
+                self.assertEqual(lot, sorted(set(lot)))
+
+    def test_a_lot_may_stand_in_any_order(self):
+        family = ties_family(triangle_web())
+        self.assertEqual(family.rank(["z", "x"]), family.rank(["x", "z"]))
+        self.assertIs(is_ring(family, ["z", "x", "y"]), True)
+        self.assertEqual(ring_of(family, ["z", "x"], "y"), ["x", "y", "z"])
+
+    def test_a_wrong_lot_comes_ahead_of_other_errors_about_it(self):
+        self.raises(BadLot(1), ring_of, ties_family(triangle_web()), ["l", "l"], "none")
+
+
+class Point_0_7(unittest.TestCase, Telling):
+    def test_unlike_things_come_ahead_of_all_else(self):
+        self.raises(UnlikeThings(), alike, even(14, 2), even(13, 2))
+        self.raises(UnlikeThings(), alike, even(13, 2), even(2, 2))
+
+
+class RestRule:
+    """The rule of a family that is made out of another one, as those of later parts are."""
+
+    def __init__(self, family):
+        self.family = family
+        self.full = family.full_mask()
+        self.most = family.rank_of(self.full)
+
+    def rank_of(self, mask):
+        return f"{mask:b}".count("1") - self.most + self.family.rank_of(self.full - mask)
+
+
+class Point_0_8(unittest.TestCase):
+    def test_sixty_makings_one_out_of_the_other(self):
+        for first in (ties_family(triangle_web()), hires_family(bakers()), listed(*listed_arguments())):
+            family = first
+            for _ in range(60):
+                family = Family(family.things(), RestRule(family))
+            self.assertIsNone(alike(family, first))
+            thing = first.base()[0]
+            for lot in free_lots(first):
+                calls = zip(asked_of_family(family, lot, thing), asked_of_family(first, lot, thing))
+                for made, direct in calls:
+                    self.assertEqual(answer(made), answer(direct))
