@@ -18,7 +18,10 @@ def is_name(value):
 
 
 def first_wrong(entries, fits):
-    """Return the first index whose entry does not fit or equals an earlier one, or None."""
+    """Return the first index whose entry does not fit or equals an earlier one, or None.
+
+    What fits must be a string.
+    """
     seen = set()
     for at, entry in enumerate(entries):
         # Asked first, because what does not fit may be a value that no set can hold.

@@ -190,10 +190,13 @@ def alike(one, other):
     while level:
         # No lesser lot tells the families apart, so both have grown out of the same free lots.
         candidates = grown(level, len(one))
+        level = []
         for mask in candidates:
-            if one.frees(mask) != other.frees(mask):
+            free = one.frees(mask)
+            if free != other.frees(mask):
                 return one.lot_of(mask)
-        level = [mask for mask in candidates if one.frees(mask)]
+            if free:
+                level.append(mask)
     return None
 
 
