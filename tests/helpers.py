@@ -167,11 +167,6 @@ def even(many, rank):
     return hires_family(Hires(people, {person: NAMES[:rank] for person in people}))
 
 
-def all_sure(many):
-    """Return a family of many ties that hang together in a star without a ring, or side by side."""
-    return even(many, many)
-
-
 class Telling:
     """Mixed into test cases: compares the error of a call with an error that is made by hand."""
 

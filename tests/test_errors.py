@@ -16,7 +16,7 @@ ATTRIBUTES = {
 }
 
 
-class ErrorClasses(unittest.TestCase):
+class Point_0_3(unittest.TestCase):
     def test_every_class_stands_directly_under_lot_error(self):
         self.assertEqual(LotError.__bases__, (ValueError,))
         for name in ATTRIBUTES:

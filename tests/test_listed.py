@@ -22,7 +22,7 @@ def least_broken(lots):
     return None
 
 
-class Listed(unittest.TestCase, Telling):
+class Point_1_5(unittest.TestCase, Telling):
     def test_document_example(self):
         family = listed(["a", "b", "c", "d"], [["a", "b"], ["a", "c"], ["b", "c"]])
         self.assertIsInstance(family, Family)
