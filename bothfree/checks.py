@@ -1,6 +1,6 @@
 """What many functions ask of their arguments: names, integers, lots, weights and numbers."""
 
-from bothfree.errors import BadLot, BadNumber, BadWeights
+from bothfree.errors import BadLot, BadNumber, BadPlaces, BadThings, BadWeights
 
 LONGEST_NAME = 8
 
@@ -20,7 +20,7 @@ def is_name(value):
 def first_wrong(entries, fits):
     """Return the first index whose entry does not fit or equals an earlier one, or None.
 
-    What fits must be a string.
+    What fits must be a string, an integer or a tuple of such.
     """
     seen = set()
     for at, entry in enumerate(entries):
@@ -31,11 +31,34 @@ def first_wrong(entries, fits):
     return None
 
 
+def sorted_things(things, most):
+    """Return the sorted list of things; raise BadThings unless they are different names, and no more than most."""
+    wrong = -1 if len(things) > most else first_wrong(things, is_name)
+    if wrong is not None:
+        raise BadThings(wrong)
+    return sorted(things)
+
+
+def sorted_places(places, most):
+    """Return the sorted list of places; raise BadPlaces unless they are different names, from one to most."""
+    wrong = first_wrong(places, is_name) if 1 <= len(places) <= most else -1
+    if wrong is not None:
+        raise BadPlaces(wrong)
+    return sorted(places)
+
+
 def check_lot(lot, things):
     """Raise BadLot unless a list of strings is a lot of these things."""
     at = first_wrong(lot, lambda entry: entry in things)
     if at is not None:
         raise BadLot(at)
+
+
+def is_lot(value, things):
+    """Tell whether a value of any kind is a lot of these things."""
+    if not isinstance(value, list):
+        return False
+    return first_wrong(value, lambda entry: isinstance(entry, str) and entry in things) is None
 
 
 def check_weights(weights, things):

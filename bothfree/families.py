@@ -1,7 +1,7 @@
 """Families of free lots: what can be asked of one family, and the families that are made of their bases."""
 
-from bothfree.checks import check_lot, first_wrong, is_name
-from bothfree.errors import BadBases, BadThings, BrokenBases, InLot, NoThing, NotFree, TooMany, UnlikeThings
+from bothfree.checks import check_lot, first_wrong, sorted_things
+from bothfree.errors import BadBases, BrokenBases, InLot, NoThing, NotFree, TooMany, UnlikeThings
 from bothfree.masks import bits_of, grown, parts_of, size_of
 
 MOST_FOR_LISTS = 12
@@ -52,8 +52,12 @@ class Family:
 
     def base(self):
         """Return the first base."""
+        return self.gathered(self._things)
+
+    def gathered(self, things):
+        """Return the lot into which things are taken in their order, each one as long as the lot stays free with it."""
         chosen = 0
-        for thing in self._things:
+        for thing in things:
             if self.frees(chosen | self._bits[thing]):
                 chosen |= self._bits[thing]
         return self.lot_of(chosen)
@@ -202,12 +206,7 @@ def alike(one, other):
 
 def listed(things, lots):
     """Return the family of these things whose bases are these lots."""
-    if len(things) > MOST_LISTED:
-        raise BadThings(-1)
-    wrong = first_wrong(things, is_name)
-    if wrong is not None:
-        raise BadThings(wrong)
-    names = sorted(things)
+    names = sorted_things(things, MOST_LISTED)
     masks = _listed_masks(names, lots)
     _check_exchanges(names, masks)
     return Family(names, TableRule(_rank_table(masks, len(names))))

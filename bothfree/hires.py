@@ -1,7 +1,7 @@
 """Hires: people and their jobs, where a lot of people is free if all of them get unlike jobs."""
 
-from bothfree.checks import check_lot, first_wrong, is_name
-from bothfree.errors import BadJobs, BadThings, NoThing, TooMany
+from bothfree.checks import check_lot, first_wrong, is_name, sorted_things
+from bothfree.errors import BadJobs, NoThing, TooMany
 from bothfree.families import Family
 from bothfree.masks import bits_of
 from bothfree.seats import Seats
@@ -14,7 +14,7 @@ class Hires:
     """People and the jobs that each of them can do."""
 
     def __init__(self, people, jobs):
-        self._people = _checked_people(people)
+        self._people = sorted_things(people, MOST_PEOPLE)
         self._jobs = _checked_jobs(jobs, self._people)
 
     def people(self):
@@ -29,16 +29,6 @@ class Hires:
 
     def __eq__(self, other):
         return isinstance(other, Hires) and self._people == other._people and self._jobs == other._jobs
-
-
-def _checked_people(people):
-    """Return the sorted people; raise BadThings if they cannot be those of a hires."""
-    if len(people) > MOST_PEOPLE:
-        raise BadThings(-1)
-    wrong = first_wrong(people, is_name)
-    if wrong is not None:
-        raise BadThings(wrong)
-    return sorted(people)
 
 
 def _checked_jobs(jobs, people):

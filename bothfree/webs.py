@@ -1,6 +1,6 @@
 """Webs of places that are joined by ties, where a lot of ties is free if one cannot go round in it."""
 
-from bothfree.checks import check_lot, first_wrong, is_name
+from bothfree.checks import check_lot, first_wrong, is_name, sorted_places
 from bothfree.errors import BadPlaces, BadTies, NoThing, TooMany
 from bothfree.families import Family
 from bothfree.masks import bits_of
@@ -13,7 +13,7 @@ class Web:
     """Places and the ties that join two of them, or one with itself."""
 
     def __init__(self, places, ties):
-        self._places = _checked_places(places)
+        self._places = sorted_places(places, MOST_PLACES)
         self._ties = _checked_ties(ties, self._places)
 
     def places(self):
@@ -32,16 +32,6 @@ class Web:
 
     def __eq__(self, other):
         return isinstance(other, Web) and self._places == other._places and self._ties == other._ties
-
-
-def _checked_places(places):
-    """Return the sorted places; raise BadPlaces if they cannot be those of a web."""
-    if not 1 <= len(places) <= MOST_PLACES:
-        raise BadPlaces(-1)
-    wrong = first_wrong(places, is_name)
-    if wrong is not None:
-        raise BadPlaces(wrong)
-    return sorted(places)
 
 
 def _checked_ties(ties, places):

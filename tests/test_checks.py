@@ -2,7 +2,7 @@
 
 import unittest
 
-from bothfree.checks import check_lot, check_number, check_weights, first_wrong, is_integer, is_name
+from bothfree.checks import check_lot, check_number, check_weights, first_wrong, is_integer, is_lot, is_name
 from bothfree.errors import BadLot, BadNumber, BadWeights
 from tests.helpers import ODD_VALUES, Telling, nested
 
@@ -41,6 +41,12 @@ class Point_0_5(unittest.TestCase, Telling):
     def test_entries_of_any_kind_are_judged(self):
         for value in [*ODD_VALUES, nested(list), nested(tuple)]:
             self.assertEqual(first_wrong(["a", value, "a"], is_name), 1)
+
+    def test_values_of_any_kind_are_lots_or_not(self):
+        for lot in ([], ["a"], ["b", "a"]):
+            self.assertIs(is_lot(lot, ["a", "b"]), True, lot)
+        for value in [*ODD_VALUES, 1, "ab", ("a",), ["a", "a"], ["c"], [1], [["a"]], ["a", nested(list)], nested(list)]:
+            self.assertIs(is_lot(value, ["a", "b"]), False, value)
 
 
 class Point_0_6(unittest.TestCase, Telling):

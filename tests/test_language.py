@@ -125,7 +125,7 @@ class Language(unittest.TestCase):
             if node.name.startswith("__"):
                 self.assertIn(node.name, DUNDERS, at)
             if node.name == "__init__":
-                self.assertFalse([part for part in ast.walk(node) if isinstance(part, ast.Return)], at)
+                self.assertFalse([part for part in ast.walk(node) if isinstance(part, (ast.Return, ast.Lambda))], at)
 
     def test_l6_l7_nodes(self):
         self.assertEqual([at for at, node in nodes(NODES_BARRED)], [])

@@ -1,13 +1,19 @@
-"""Points 0.2 to 0.5, 0.7 and 0.8 over all functions: what is passed and told is free, and equal calls tell the same."""
+"""Points 0.2 to 0.8 over all functions: what is passed and told is free, and equal calls tell the same."""
 
 import copy
 import unittest
+from random import Random
 
-from bothfree.errors import BadLot, LotError, UnlikeThings
+from bothfree.counts import Counts, counts_family, over_full, room_bound, room_fault, tight
+from bothfree.errors import BadLot, BadNumber, BadWeights, LotError, UnlikeThings
 from bothfree.families import Family, alike, bases, free_lots, is_ring, listed, ring_of, rings
 from bothfree.hires import Hires, hire, hire_most, hires_family, other_side, short
+from bothfree.one import (all_heaviest, base_fault, free_fault, heaviest_base, heaviest_free, heaviest_of, moves,
+                          number_fault, second, weight)
+from bothfree.roads import Roads, cut_places, roads_family, turned_hires, ways, ways_most
+from bothfree.rows import Rows, is_across, rows_family, sum_fault, sum_of, turned_rows, written
 from bothfree.webs import Web, cut_of, is_cut, pieces, ring_in, ties_family
-from tests.helpers import Telling, bakers, even, some_families, told, triangle_web
+from tests.helpers import NAMES, Telling, bakers, crossing, even, lots_of, rooms, some_families, told, triangle_web
 
 
 def spoil(value):
@@ -34,6 +40,30 @@ def listed_arguments():
     return [["c", "b", "a", "d"], [["c", "b"], ["b", "a"], ["a", "c"]]]
 
 
+def roads_arguments():
+    return [["d", "b", "a", "c"], [("c", "d"), ("b", "c"), ("a", "c")], ["d", "a", "b"], ["d"]]
+
+
+def rows_arguments():
+    return [{"c": [2, 4, 6], "b": [0, 1, 1], "a": [1, 0, 1]}]
+
+
+def two_arguments():
+    return [{"c": [1, 0], "b": [1, 1], "a": [0, 1]}]
+
+
+def counts_arguments():
+    return [["c", "b", "a"], [(["b", "a"], 1), (["c", "a", "b"], 2)]]
+
+
+def over_whole(table):
+    return Rows(table, over="whole")
+
+
+def over_two(table):
+    return Rows(table, over="two")
+
+
 def asked_of_web(web):
     """Return calls with their arguments; each list of arguments begins with the function."""
     return [[web.places], [web.ties], [web.ends, "x"], [pieces, web, ["x", "l"]], [ring_in, web, ["z", "y", "x"]],
@@ -54,7 +84,35 @@ def told_of_hires(hires):
 def asked_of_family(family, lot, thing):
     return [[family.things], [family.rank, lot], [family.is_free, lot], [family.is_base, lot], [family.span, lot],
             [family.base], [family.stuck], [family.sure], [ring_of, family, lot, thing], [is_ring, family, lot],
-            [free_lots, family], [rings, family], [bases, family], [alike, family, even(len(family), 1)]]
+            [free_lots, family], [rings, family], [bases, family], [alike, family, even(len(family), 1)],
+            *asked_of_weights(family, {name: at % 3 - 1 for at, name in enumerate(family.things())}, lot, thing)]
+
+
+def asked_of_weights(family, weights, lot, thing):
+    heaviest = heaviest_base(family, weights)
+    return [[weight, family, weights, lot], [heaviest_base, family, weights], [heaviest_free, family, weights],
+            [heaviest_of, family, weights, 2], [base_fault, family, weights, lot], [free_fault, family, weights, lot],
+            [number_fault, family, weights, lot], [lambda: bases(all_heaviest(family, weights))],
+            [moves, family, weights, heaviest, thing], [second, family, weights, heaviest]]
+
+
+def asked_of_roads(roads):
+    return [[roads.places], [roads.steps], [roads.doors], [roads.gates], [ways, roads, ["b"]],
+            [ways, roads, ["b", "a"]], [cut_places, roads, ["b", "a"]], [ways_most, roads, ["d", "b", "a"]],
+            [lambda: told_of_hires(turned_hires(roads))], *asked_of_family(roads_family(roads), ["b"], "a")]
+
+
+def asked_of_rows(rows):
+    given = sum_of(rows, rows.things())
+    return [[rows.things], [rows.rows], [rows.row, "b"], [rows.width], [rows.over], [sum_of, rows, ["c", "b", "a"]],
+            [sum_fault, rows, ["c", "b", "a"], given], [written, rows, ["b", "a"], "c"], [is_across, rows, rows],
+            [lambda: turned_rows(rows).rows()], *asked_of_family(rows_family(rows), ["b", "a"], "c")]
+
+
+def asked_of_counts(counts):
+    return [[counts.things], [counts.rooms], [over_full, counts, ["b", "a"]], [tight, counts, ["c", "a"]],
+            [room_bound, counts, ["c", "b", "a"]], [room_fault, counts, ["b", "c", "a"], ["c", "b"], [0]],
+            *asked_of_family(counts_family(counts), ["c", "a"], "b")]
 
 
 def answer(call):
@@ -65,7 +123,9 @@ def answer(call):
 
 
 MADE = [(Web, web_arguments, asked_of_web), (Hires, hires_arguments, asked_of_hires),
-        (listed, listed_arguments, lambda family: asked_of_family(family, ["c", "a"], "b"))]
+        (listed, listed_arguments, lambda family: asked_of_family(family, ["c", "a"], "b")),
+        (Roads, roads_arguments, asked_of_roads), (over_whole, rows_arguments, asked_of_rows),
+        (over_two, two_arguments, asked_of_rows), (Counts, counts_arguments, asked_of_counts)]
 
 
 class Point_0_2(unittest.TestCase):
@@ -83,7 +143,7 @@ class Point_0_2(unittest.TestCase):
             made = make(*passed)
             self.assertEqual(passed, arguments())
             for call in asked(made):
-                lots = [argument for argument in call if isinstance(argument, list)]
+                lots = [argument for argument in call if isinstance(argument, (list, dict))]
                 before = copy.deepcopy(lots)
                 spoil(answer(call))
                 self.assertEqual(lots, before)
@@ -118,7 +178,8 @@ class Point_0_3(unittest.TestCase):
     def test_an_error_changes_nothing(self):
         family = ties_family(triangle_web())
         before = [answer(call) for call in asked_of_family(family, ["x"], "y")]
-        for call in ([family.rank, ["x", "x"]], [ring_of, family, ["l"], "x"], [ring_of, family, ["x"], "none"]):
+        for call in ([family.rank, ["x", "x"]], [ring_of, family, ["l"], "x"], [ring_of, family, ["x"], "none"],
+                     [all_heaviest, family, {"x": 1}], [second, family, dict.fromkeys("lxyz", 1), ["l"]]):
             self.assertIsInstance(answer(call), tuple)
         self.assertEqual([answer(call) for call in asked_of_family(family, ["x"], "y")], before)
 
@@ -127,7 +188,7 @@ class Point_0_4(unittest.TestCase):
     def test_equal_calls_on_equal_objects_tell_the_same(self):
         for make, arguments, asked in MADE:
             one = make(*arguments())
-            other = make(*[turned_about(argument) for argument in arguments()])
+            other = make(*turned_about(arguments()))
             for _ in range(2):
                 self.assertEqual([answer(call) for call in asked(one)], [answer(call) for call in asked(other)])
 
@@ -139,12 +200,23 @@ class Point_0_4(unittest.TestCase):
             self.assertEqual(hire_most(asked, lot), hire_most(bakers(), lot))
 
 
-def turned_about(value):
+def turned_about(arguments):
+    """Return arguments that make an equal object: with all things and keys the other way round."""
+    if arguments in (rows_arguments(), two_arguments()):
+        return [dict(reversed(arguments[0].items()))]
+    if arguments == roads_arguments():
+        return [part[::-1] for part in arguments]
+    if arguments == counts_arguments():
+        return [arguments[0][::-1], [(lot[::-1], number) for lot, number in arguments[1]]]
+    return [all_turned_about(part) for part in arguments]
+
+
+def all_turned_about(value):
     """Return a value with the entries of all lists, tuples and dicts the other way round."""
     if isinstance(value, dict):
-        return {key: turned_about(part) for key, part in reversed(list(value.items()))}
+        return {key: all_turned_about(part) for key, part in reversed(value.items())}
     if isinstance(value, (list, tuple)):
-        return value.__class__([turned_about(part) for part in reversed(value)])
+        return value.__class__([all_turned_about(part) for part in reversed(value)])
     return value
 
 
@@ -165,10 +237,20 @@ class Point_0_5(unittest.TestCase, Telling):
         self.raises(BadLot(1), ring_of, ties_family(triangle_web()), ["l", "l"], "none")
 
 
+class Point_0_6(unittest.TestCase, Telling):
+    def test_wrong_weights_come_ahead_of_lots_and_numbers(self):
+        family = counts_family(rooms())
+        self.raises(BadWeights("a"), weight, family, {}, ["x"])
+        self.raises(BadWeights("b"), heaviest_of, family, {"a": 1, "b": True, "c": 1}, -1)
+        self.raises(BadWeights("d"), second, family, {"a": 1, "b": 1, "c": 1, "d": 1}, [])
+        self.raises(BadNumber(False), heaviest_of, family, {"a": 1, "b": 1, "c": 1}, False)
+
+
 class Point_0_7(unittest.TestCase, Telling):
     def test_unlike_things_come_ahead_of_all_else(self):
         self.raises(UnlikeThings(), alike, even(14, 2), even(13, 2))
         self.raises(UnlikeThings(), alike, even(13, 2), even(2, 2))
+        self.raises(UnlikeThings(), is_across, over_two({"a": [1]}), over_whole({"b": [1]}))
 
 
 class RestRule:
@@ -195,3 +277,39 @@ class Point_0_8(unittest.TestCase):
                 calls = zip(asked_of_family(family, lot, thing), asked_of_family(first, lot, thing))
                 for made, direct in calls:
                     self.assertEqual(answer(made), answer(direct))
+
+    def test_sixty_times_the_heaviest(self):
+        chance = Random(8)
+        worlds = [roads_family(crossing()), counts_family(rooms()), rows_family(over_whole(*rows_arguments())), even(8, 4)]
+        for first in worlds:
+            family = first
+            sums = dict.fromkeys(first.things(), 0)
+            for _ in range(60):
+                weights = {thing: chance.randint(0, 3) // 3 for thing in sums}
+                sums = {thing: 10 * sums[thing] + weights[thing] for thing in sums}
+                family = all_heaviest(family, weights)
+            # The weights of earlier makings go ahead of those of later ones, as digits do.
+            self.assertEqual(bases(family), bases(all_heaviest(first, sums)))
+
+    def test_the_heaviest_and_the_rests_by_turns(self):
+        chance = Random(9)
+        family, known = even(6, 3), lots_of(NAMES[:6])
+        known = [lot for lot in known if len(lot) == 3]
+        for _ in range(30):
+            weights = {thing: chance.randint(0, 8) // 8 for thing in NAMES[:6]}
+            family = all_heaviest(Family(family.things(), RestRule(family)), weights)
+            known = [[thing for thing in NAMES[:6] if thing not in lot] for lot in known]
+            most = max(sum(weights[thing] for thing in lot) for lot in known)
+            known = [lot for lot in known if sum(weights[thing] for thing in lot) == most]
+        self.assertEqual(bases(family), sorted(known))
+
+    def test_sixty_makings_of_24_things(self):
+        chance = Random(10)
+        family = even(24, 12)
+        for at in range(60):
+            if at % 3 == 2:
+                family = Family(family.things(), RestRule(family))
+            else:
+                # Weights that differ seldom leave many bases, and many parts ask for their ranks on the way down.
+                family = all_heaviest(family, {thing: chance.randint(0, 1) for thing in family.things()})
+        self.assertEqual(len(family.base()), 12)
