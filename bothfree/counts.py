@@ -3,7 +3,7 @@
 from bothfree.checks import check_lot, first_wrong, is_integer, is_lot, sorted_things
 from bothfree.errors import BadRooms, CrossedRooms, NotFree
 from bothfree.families import Family
-from bothfree.masks import bits_of, size_of
+from bothfree.masks import bits_of, outer_bits, size_of
 
 MOST_THINGS = 24
 MOST_ROOMS = 60
@@ -53,15 +53,27 @@ def _is_room(value, things):
 class CountsRule:
     """The rule of the family of a counts.
 
-    Its rooms are tuples of a mask, a number and an index; inner rooms stand ahead of those that hold them.
+    Its rooms, of many things, are tuples of a mask, a number and an index; inner ones stand ahead of outer ones.
     """
 
-    def __init__(self, rooms):
+    def __init__(self, many, rooms):
+        self._many = many
         self._rooms = rooms
 
     def rank_of(self, mask):
         """Return the number of things of a mask that the rooms leave."""
         return size_of(self.bound(mask)[0])
+
+    def rings_over(self, mask):
+        """Return the rings that the things make with a free mask, 0 for those that make none."""
+        tight_rooms = [room for room, number, _ in self._rooms if size_of(mask & room) == number]
+        rings = [0] * self._many
+        for at in outer_bits(mask, self._many):
+            own = [room for room in tight_rooms if room >> at & 1]
+            if own:
+                # The innermost of the tight rooms of a thing is within all others.
+                rings[at] = (mask & own[0]) | (1 << at)
+        return rings
 
     def bound(self, mask):
         """Return a greatest free part of a mask, and the dict from the indexes to the masks of rooms that show it.
@@ -86,7 +98,7 @@ def _rule_of(counts):
     rooms = []
     for index, (lot, number) in enumerate(counts.rooms()):
         rooms.append((sum([bits[thing] for thing in lot]), number, index))
-    return CountsRule(sorted(rooms, key=lambda room: size_of(room[0])))
+    return CountsRule(len(bits), sorted(rooms, key=lambda room: size_of(room[0])))
 
 
 def counts_family(counts):

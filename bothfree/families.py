@@ -12,14 +12,17 @@ MOST_LISTED = 10
 class Family:
     """Things, some lots of which are free.
 
-    The rule is any object with a method rank_of(mask) that returns the rank of a lot, told as a
-    mask over the sorted things. A family is such an object itself.
+    The rule is an object with the methods rank_of and rings_over, for lots that are told as masks over the
+    sorted things. A family is such an object itself. It remembers what its rule told, because questions would
+    otherwise multiply where families are made one out of the other.
     """
 
     def __init__(self, things, rule):
         self._things = sorted(things)
         self._bits = {thing: 1 << at for at, thing in enumerate(self._things)}
         self._rule = rule
+        self._ranks = {}
+        self._rings = {}
 
     def things(self):
         """Return the sorted list of the things."""
@@ -58,9 +61,15 @@ class Family:
         """Return the lot into which things are taken in their order, each one as long as the lot stays free with it."""
         chosen = 0
         for thing in things:
-            if self.frees(chosen | self._bits[thing]):
-                chosen |= self._bits[thing]
+            chosen = self.grown_in(chosen, self._bits[thing])
         return self.lot_of(chosen)
+
+    def grown_in(self, chosen, mask):
+        """Return a free mask that has taken in the things of another one, each as long as it stays free with it."""
+        for at in bits_of(mask):
+            if self.frees(chosen | (1 << at)):
+                chosen |= 1 << at
+        return chosen
 
     def stuck(self):
         """Return the things that are in no base."""
@@ -74,7 +83,22 @@ class Family:
 
     def rank_of(self, mask):
         """Return the rank of a lot that is told as a mask."""
-        return self._rule.rank_of(mask)
+        if mask not in self._ranks:
+            self._ranks[mask] = self._rule.rank_of(mask)
+        return self._ranks[mask]
+
+    def rings_over(self, mask):
+        """Return the list of the rings, as masks, that the things in their order make with a free mask.
+
+        It has 0 for each thing that makes none, and for those of the mask. Nobody may change the list.
+        """
+        if mask not in self._rings:
+            self._rings[mask] = self._rule.rings_over(mask)
+        return self._rings[mask]
+
+    def rule(self):
+        """Return the rule."""
+        return self._rule
 
     def frees(self, mask):
         """Tell whether a lot that is told as a mask is free."""
@@ -104,6 +128,20 @@ class TableRule:
         """Return the rank of a mask."""
         return self._ranks[mask]
 
+    def rings_over(self, mask):
+        """Return the rings that the things make with a free mask, 0 for those that make none."""
+        many = len(self._ranks).bit_length() - 1
+        return [self._ring_of(mask | (1 << at)) for at in range(many)]
+
+    def _ring_of(self, whole):
+        """Return the ring of a mask that loses at most one with the right thing, or 0.
+
+        The ring loses itself with each of its things; the other things leave it whole.
+        """
+        if self._ranks[whole] == size_of(whole):
+            return 0
+        return sum([whole - part for part in parts_of(whole) if self._ranks[part] == size_of(part)])
+
 
 def ring_of(family, lot, thing):
     """Return the only ring among the things of a free lot and one thing more, or None."""
@@ -114,11 +152,8 @@ def ring_of(family, lot, thing):
         raise NoThing(thing)
     if thing in lot:
         raise InLot(thing)
-    whole = mask | family.mask_of([thing])
-    if family.frees(whole):
-        return None
-    # The ring loses itself with each of its things; the other things leave it whole.
-    return family.lot_of(sum([whole - part for part in parts_of(whole) if family.frees(part)]))
+    ring = family.rings_over(mask)[family.things().index(thing)]
+    return family.lot_of(ring) if ring else None
 
 
 def is_ring(family, lot):

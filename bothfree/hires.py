@@ -3,7 +3,7 @@
 from bothfree.checks import check_lot, first_wrong, is_name, sorted_things
 from bothfree.errors import BadJobs, NoThing, TooMany
 from bothfree.families import Family
-from bothfree.masks import bits_of
+from bothfree.masks import bits_of, outer_bits
 from bothfree.seats import Seats
 
 MOST_PEOPLE = 24
@@ -62,12 +62,22 @@ class HiresRule:
 
     def rank_of(self, mask):
         """Return the number of people of a mask who can be seated."""
+        return len(self._seated(mask).given())
+
+    def rings_over(self, mask):
+        """Return the rings that the people make with a free mask, 0 for those who make none."""
+        seats = self._seated(mask)
+        rings = [0] * len(self._masks)
+        for person in outer_bits(mask, len(rings)):
+            rings[person] = sum([1 << other for other in seats.crowd(person)])
+        return rings
+
+    def _seated(self, mask):
+        """Return the seats of as many people of a mask as can be seated."""
         seats = Seats(self._masks)
-        seated = 0
         for person in bits_of(mask):
-            if seats.seat(person):
-                seated += 1
-        return seated
+            seats.seat(person)
+        return seats
 
 
 def hires_family(hires):

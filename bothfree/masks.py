@@ -27,3 +27,8 @@ def grown(masks, many):
     Masks of the same size that stand in the sorted order of their lots give such masks again.
     """
     return [mask + (1 << at) for mask in masks for at in range(mask.bit_length(), many)]
+
+
+def outer_bits(mask, many):
+    """Return the ascending list of the indexes, of many, that a mask lacks."""
+    return [at for at in range(many) if not mask >> at & 1]

@@ -3,6 +3,7 @@
 from bothfree.checks import check_lot, check_number, check_weights, is_lot
 from bothfree.errors import NotBase
 from bothfree.families import Family, ring_of
+from bothfree.masks import bits_of, size_of
 
 
 def weight(family, weights, lot):
@@ -87,28 +88,35 @@ def _worths(weights):
 class LevelsRule:
     """The rule of the family of the heaviest bases; the parts are the masks of equal weights, the heaviest first.
 
-    It asks the family once for each part. It remembers what it told, because these questions would otherwise
-    multiply where such families are made one out of the other.
+    It knows, for each part, the mask of all heavier things, a base of these, and their rank.
     """
 
     def __init__(self, family, parts):
         self._family = family
         self._parts = []
         above = 0
+        base = 0
         for part in parts:
-            self._parts.append((above, part, family.rank_of(above)))
+            self._parts.append((above, part, base, size_of(base)))
             above |= part
-        self._known = {}
+            base = family.grown_in(base, part)
 
     def rank_of(self, mask):
         """Return the sum, over the parts, of what the things of a mask in it add to the rank of all heavier things."""
-        if mask not in self._known:
-            total = 0
-            for above, part, before in self._parts:
-                if mask & part:
-                    total += self._family.rank_of(above | (mask & part)) - before
-            self._known[mask] = total
-        return self._known[mask]
+        total = 0
+        for above, part, _, before in self._parts:
+            if mask & part:
+                total += self._family.rank_of(above | (mask & part)) - before
+        return total
+
+    def rings_over(self, mask):
+        """Return the rings that the things make with a free mask, 0 for those that make none."""
+        rings = [0] * len(self._family)
+        for _, part, base, _ in self._parts:
+            found = self._family.rings_over(base | (mask & part))
+            for at in bits_of(part & ~mask):
+                rings[at] = found[at] & part
+        return rings
 
 
 def all_heaviest(family, weights):

@@ -4,7 +4,7 @@ from bothfree.checks import check_lot, first_wrong, sorted_places
 from bothfree.errors import BadDoors, BadGates, BadSteps
 from bothfree.families import Family
 from bothfree.hires import Hires, hire_most, hires_family
-from bothfree.masks import bits_of, size_of
+from bothfree.rules import Chart, PartRule, TurnedRule
 
 MOST_PLACES = 24
 
@@ -59,27 +59,12 @@ def _wrong_place(entries, places):
     return first_wrong(entries, lambda entry: entry in places)
 
 
-class RoadsRule:
-    """The rule of the family of a roads, by the hires of its turned family.
-
-    The doors of a lot have roads of their own as far as the places outside of the lot can have all jobs.
-    """
-
-    def __init__(self, hired, doors):
-        self._hired = hired
-        self._bits = [hired.mask_of([door]) for door in doors]
-        self._all = hired.full_mask()
-        self._jobs = hired.rank_of(self._all)
-
-    def rank_of(self, mask):
-        """Return the number of doors of a mask that can have unlike roads together."""
-        rest = self._all - sum([self._bits[at] for at in bits_of(mask)])
-        return size_of(mask) + self._hired.rank_of(rest) - self._jobs
-
-
 def roads_family(roads):
     """Return the family of the doors, in which those lots are free whose doors can have unlike roads."""
-    return Family(roads.doors(), RoadsRule(hires_family(turned_hires(roads)), roads.doors()))
+    places = hires_family(turned_hires(roads))
+    chart = Chart([(own, roads.places().index(door)) for own, door in enumerate(roads.doors())])
+    rule = PartRule(Family(roads.places(), TurnedRule(places)), chart, len(roads.doors()), 0)
+    return Family(roads.doors(), rule)
 
 
 def ways(roads, lot):

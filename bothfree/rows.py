@@ -4,7 +4,8 @@ from bothfree.checks import check_lot, is_integer, is_name
 from bothfree.errors import BadRows, InLot, NoThing, TooMany, UnlikeThings
 from bothfree.families import Family, ring_of
 from bothfree.masks import bits_of
-from bothfree.sums import common_divisor, nought_terms, rank_over_two, rank_over_whole
+from bothfree.sums import (common_divisor, nought_terms, rank_over_two, rank_over_whole, rings_over_two,
+                           rings_over_whole)
 
 MOST_THINGS = 24
 GREATEST_WIDTH = 24
@@ -73,6 +74,10 @@ class TwoRule:
         """Return the rank of the rows of a mask of things."""
         return rank_over_two([self._masks[at] for at in bits_of(mask)])
 
+    def rings_over(self, mask):
+        """Return the rings that the rows make with a free mask, 0 for those that make none."""
+        return rings_over_two(self._masks, bits_of(mask))
+
 
 class WholeRule:
     """The rule of the family of rows over whole."""
@@ -83,6 +88,10 @@ class WholeRule:
     def rank_of(self, mask):
         """Return the rank of the rows of a mask of things."""
         return rank_over_whole([self._rows[at] for at in bits_of(mask)])
+
+    def rings_over(self, mask):
+        """Return the rings that the rows make with a free mask, 0 for those that make none."""
+        return rings_over_whole(self._rows, bits_of(mask))
 
 
 def rows_family(rows):

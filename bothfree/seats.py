@@ -36,6 +36,11 @@ class Seats:
         """Return the dict from the people who have jobs to these jobs."""
         return dict(self._job_of)
 
+    def crowd(self, person):
+        """Return a person without a job and all who could give one up for this person, or none if a job is spare."""
+        last, came = self._search([person])
+        return [person] + [self._person_of[job] for job in came] if last is None else []
+
     def reached(self, people):
         """Return people without jobs, and all who are come to by the jobs that these and those can do.
 

@@ -15,6 +15,60 @@ def rank_over_two(masks):
     return len(ahead)
 
 
+def rings_over_two(masks, free):
+    """Return the rings, as masks of indexes, that rows over two make with those at free indexes, 0 for none."""
+    many = len(masks)
+    ahead = []
+    for at in free:
+        ahead.append(_tagged_rest(masks, at, ahead))
+    rings = [0] * many
+    for at in range(many):
+        if at not in free:
+            rest = _tagged_rest(masks, at, ahead)
+            rings[at] = 0 if rest >> many else rest
+    return rings
+
+
+def _tagged_rest(masks, at, ahead):
+    """Return what the rows ahead leave of a row, with the tags behind it of the rows of which it is made."""
+    rest = (masks[at] << len(masks)) | (1 << at)
+    for other in ahead:
+        rest = min(rest, rest ^ other)
+    return rest
+
+
+def rings_over_whole(rows, free):
+    """Return the rings, as masks of indexes, that lists of integers make with those at free indexes, 0 for none."""
+    places = [list(column) for column in zip(*rows)]
+    leading = []
+    before = 1
+    for at in free:
+        lead = [place for place, row in enumerate(places) if row[at] and place not in leading][0]
+        leading.append(lead)
+        before = _cleared(places, lead, at, before)
+    others = [row for place, row in enumerate(places) if place not in leading]
+    rings = [0] * len(rows)
+    for at in range(len(rows)):
+        if at not in free and not any([row[at] for row in others]):
+            # The only entry of a free column stands at its leading place.
+            rings[at] = (1 << at) + sum([1 << own for own, lead in zip(free, leading) if places[lead][at]])
+    return rings
+
+
+def _cleared(places, lead, at, before):
+    """Change rows such that all but the leading one have 0 at an index; return the entry of the leading one there.
+
+    As in _rest_of, each entry stays a determinant.
+    """
+    ahead = places[lead]
+    top = ahead[at]
+    for place, row in enumerate(list(places)):
+        if place != lead:
+            own = row[at]
+            places[place] = [(top * mine - own * its) // before for mine, its in zip(row, ahead)]
+    return top
+
+
 def rank_over_whole(rows):
     """Return the rank of lists of integers of the same length."""
     ahead = []

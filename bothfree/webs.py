@@ -3,7 +3,7 @@
 from bothfree.checks import check_lot, first_wrong, is_name, sorted_places
 from bothfree.errors import BadPlaces, BadTies, NoThing, TooMany
 from bothfree.families import Family
-from bothfree.masks import bits_of
+from bothfree.masks import bits_of, outer_bits
 
 MOST_PLACES = 16
 MOST_TIES = 24
@@ -90,6 +90,33 @@ class TiesRule:
             if clumps.unite(one, other):
                 joins += 1
         return joins
+
+    def rings_over(self, mask):
+        """Return the rings that the ties make with a free mask, 0 for those that make none."""
+        ways = {}
+        for place in self._places:
+            if place not in ways:
+                self._spread(mask, place, ways)
+        rings = [0] * len(self._ends)
+        for at in outer_bits(mask, len(rings)):
+            one, other = self._ends[at]
+            if ways[one][0] == ways[other][0]:
+                # The ties that both ways have in common lead out and back.
+                rings[at] = (ways[one][1] ^ ways[other][1]) | (1 << at)
+        return rings
+
+    def _spread(self, mask, start, ways):
+        """Put down, for all places that the ties of a free mask join with one, this one and the ties of the way."""
+        ways[start] = (start, 0)
+        waiting = [start]
+        while waiting:
+            place = waiting.pop()
+            for at in bits_of(mask):
+                one, other = self._ends[at]
+                beyond = other if place == one else one
+                if place in (one, other) and beyond not in ways:
+                    ways[beyond] = (start, ways[place][1] | (1 << at))
+                    waiting.append(beyond)
 
 
 def ties_family(web):

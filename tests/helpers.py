@@ -274,8 +274,8 @@ def some_listed():
             (["a", "b", "c", "d"], [["a", "c"], ["a", "d"], ["b", "c"], ["b", "d"]])]
 
 
-def some_families():
-    """Return pairs of a family and the same one by plain search."""
+def world_families():
+    """Return pairs of a family of a world, a listed one or one of the heaviest bases, and the same by plain search."""
     pairs = [(ties_family(web), searched_web(web)) for web in some_webs()]
     pairs += [(hires_family(hires), searched_hires(hires)) for hires in some_hires()]
     pairs += [(roads_family(roads), searched_roads(roads)) for roads in some_roads()]

@@ -7,7 +7,8 @@ from bothfree.errors import BadLot, InLot, NoThing, NotFree, TooMany, UnlikeThin
 from bothfree.families import Family, alike, bases, free_lots, is_ring, listed, ring_of, rings
 from bothfree.hires import Hires, hires_family
 from bothfree.webs import Web, ties_family
-from tests.helpers import NAMES, Telling, even, lots_of, some_families, triangle_web
+from tests.helpers import NAMES, Telling, even, lots_of, triangle_web
+from tests.makings import some_families
 
 
 def triangle():
@@ -61,6 +62,16 @@ class Point_1_2(unittest.TestCase, Telling):
                     self.assertIs(family.is_free(told), searched.is_free(lot))
                     self.assertIs(family.is_base(told), lot in searched.bases())
                     self.assertEqual(family.span(told), searched.span(lot))
+
+    def test_rings_over_free_lots(self):
+        # The package works with these masks; each ring is what point 1.3 says.
+        for family, searched in some_families():
+            for lot in searched.free_lots():
+                rings_of_lot = [[other for other in [*lot, thing] if searched.is_free({*lot, thing} - {other})]
+                                for thing in searched.things]
+                for thing, ring, mask in zip(searched.things, rings_of_lot, family.rings_over(family.mask_of(lot))):
+                    free = searched.is_free({*lot, thing})
+                    self.assertEqual(family.lot_of(mask), [] if free else sorted(ring))
 
     def test_first_base_stuck_and_sure_things(self):
         for family, searched in some_families():

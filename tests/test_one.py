@@ -9,8 +9,9 @@ from bothfree.families import Family, alike, bases
 from bothfree.one import (all_heaviest, base_fault, free_fault, heaviest_base, heaviest_free, heaviest_of, moves,
                           number_fault, second, weight)
 from bothfree.webs import Web, ties_family
-from tests.helpers import (NAMES, ODD_VALUES, Telling, even, heaviest_of_all, lots_of, nested, some_families, some_weights,
+from tests.helpers import (NAMES, ODD_VALUES, Telling, even, heaviest_of_all, lots_of, nested, some_weights,
                            triangle_web)
+from tests.makings import some_families
 
 RING = {"x": 5, "y": 3, "z": 3}
 

@@ -4,16 +4,23 @@ import copy
 import unittest
 from random import Random
 
+from bothfree.both import both, both_fault, chain_fault, extended, greatest_set, least_set, needed, possible
 from bothfree.counts import Counts, counts_family, over_full, room_bound, room_fault, tight
 from bothfree.errors import BadLot, BadNumber, BadWeights, LotError, UnlikeThings
-from bothfree.families import Family, alike, bases, free_lots, is_ring, listed, ring_of, rings
+from bothfree.families import alike, bases, free_lots, is_ring, listed, ring_of, rings
 from bothfree.hires import Hires, hire, hire_most, hires_family, other_side, short
+from bothfree.many import (cover_fault, cover_paper, covered, fewest, is_cover_paper, is_pack_paper, most, pack_fault,
+                           pack_paper, packed, parted, parted_paper, strength, strength_fault, thickness,
+                           thickness_fault, union)
 from bothfree.one import (all_heaviest, base_fault, free_fault, heaviest_base, heaviest_free, heaviest_of, moves,
                           number_fault, second, weight)
 from bothfree.roads import Roads, cut_places, roads_family, turned_hires, ways, ways_most
 from bothfree.rows import Rows, is_across, rows_family, sum_fault, sum_of, turned_rows, written
+from bothfree.split import best_both, curve, heaviest_both, split, split_fault
+from bothfree.turns import cut_short, drawn_in, free_on, inside, joined, named, ring_rows, turned, web_rows, without
 from bothfree.webs import Web, cut_of, is_cut, pieces, ring_in, ties_family
-from tests.helpers import NAMES, Telling, bakers, crossing, even, lots_of, rooms, some_families, told, triangle_web
+from tests.helpers import NAMES, Telling, bakers, crossing, even, lots_of, rooms, told, triangle_web
+from tests.makings import some_families
 
 
 def spoil(value):
@@ -26,6 +33,13 @@ def spoil(value):
             spoil(part)
     if isinstance(value, (list, dict)):
         value.clear()
+
+
+def copied(value):
+    """Return a copy of a value in which all lists and dicts are new; families stay the same."""
+    if isinstance(value, (list, tuple)):
+        return value.__class__([copied(part) for part in value])
+    return {key: copied(part) for key, part in value.items()} if isinstance(value, dict) else value
 
 
 def web_arguments():
@@ -67,7 +81,7 @@ def over_two(table):
 def asked_of_web(web):
     """Return calls with their arguments; each list of arguments begins with the function."""
     return [[web.places], [web.ties], [web.ends, "x"], [pieces, web, ["x", "l"]], [ring_in, web, ["z", "y", "x"]],
-            [cut_of, web, ["b"]], [is_cut, web, ["y", "x"]], *asked_of_family(ties_family(web), ["z", "x"], "y")]
+            [cut_of, web, ["b"]], [is_cut, web, ["y", "x"]], [lambda: web_rows(web).rows()], [lambda: ring_rows(web).rows()], *asked_of_family(ties_family(web), ["z", "x"], "y")]
 
 
 def asked_of_hires(hires):
@@ -85,7 +99,8 @@ def asked_of_family(family, lot, thing):
     return [[family.things], [family.rank, lot], [family.is_free, lot], [family.is_base, lot], [family.span, lot],
             [family.base], [family.stuck], [family.sure], [ring_of, family, lot, thing], [is_ring, family, lot],
             [free_lots, family], [rings, family], [bases, family], [alike, family, even(len(family), 1)],
-            *asked_of_weights(family, {name: at % 3 - 1 for at, name in enumerate(family.things())}, lot, thing)]
+            *asked_of_weights(family, {name: at % 3 - 1 for at, name in enumerate(family.things())}, lot, thing),
+            *asked_of_turns(family, lot), *asked_of_two(family, turned(family), lot), *asked_of_many(family, lot)]
 
 
 def asked_of_weights(family, weights, lot, thing):
@@ -94,6 +109,37 @@ def asked_of_weights(family, weights, lot, thing):
             [heaviest_of, family, weights, 2], [base_fault, family, weights, lot], [free_fault, family, weights, lot],
             [number_fault, family, weights, lot], [lambda: bases(all_heaviest(family, weights))],
             [moves, family, weights, heaviest, thing], [second, family, weights, heaviest]]
+
+
+def asked_of_turns(family, lot):
+    names = dict(zip(family.things(), NAMES[::-1]))
+    return [[told_of, turned, family], [told_of, inside, family, lot], [told_of, without, family, lot],
+            [told_of, drawn_in, family, lot], [told_of, joined, family, free_on(["q", "zz"])],
+            [told_of, cut_short, family, 1], [told_of, named, family, names], [told_of, union, [family, turned(family)]]]
+
+
+def told_of(make, *arguments):
+    made = make(*arguments)
+    return made.things(), bases(made)
+
+
+def asked_of_two(one, other, lot):
+    weights = {name: 2 * at % 5 - 1 for at, name in enumerate(one.things())}
+    parts = [dict.fromkeys(weights, 0), dict(weights)]
+    return [[both, one, other], [both_fault, one, other, lot, lot], [least_set, one, other], [greatest_set, one, other],
+            [needed, one, other], [possible, one, other], [extended, one, other, []], [extended, one, other, lot],
+            [chain_fault, one, other, [], lot], [chain_fault, one, other, [], lot[:1]],
+            [heaviest_both, one, other, weights, 1], [split, one, other, weights, 1], [curve, one, other, weights],
+            [split_fault, one, other, weights, lot[:1], *parts], [best_both, one, other, weights]]
+
+
+def asked_of_many(family, lot):
+    things = family.things()
+    return [[covered, family, 3], [cover_paper, family, 1], [packed, family, 1], [pack_paper, family, 4],
+            [cover_fault, family, 2, [lot, things]], [pack_fault, family, 2, [lot, lot]], [is_cover_paper, family, 1, lot],
+            [is_pack_paper, family, 3, lot], [fewest, family], [most, family], [parted, [family, family], lot],
+            [parted, [family] * 4, things], [parted_paper, [family], things], [thickness, family], [strength, family],
+            [thickness_fault, family, (1, 1, lot, [lot])], [strength_fault, family, (1, 1, lot, [lot])]]
 
 
 def asked_of_roads(roads):
@@ -125,7 +171,14 @@ def answer(call):
 MADE = [(Web, web_arguments, asked_of_web), (Hires, hires_arguments, asked_of_hires),
         (listed, listed_arguments, lambda family: asked_of_family(family, ["c", "a"], "b")),
         (Roads, roads_arguments, asked_of_roads), (over_whole, rows_arguments, asked_of_rows),
-        (over_two, two_arguments, asked_of_rows), (Counts, counts_arguments, asked_of_counts)]
+        (over_two, two_arguments, asked_of_rows), (Counts, counts_arguments, asked_of_counts),
+        (free_on, lambda: [["c", "a", "b"]], lambda family: asked_of_family(family, ["c", "a"], "b")),
+        (lambda lots: union([listed(["a", "b", "c"], lots), free_on_one()]), lambda: [[["a", "b"], ["c", "b"]]],
+         lambda family: asked_of_family(family, ["c", "a"], "b"))]
+
+
+def free_on_one():
+    return joined(free_on(["b"]), named(even(2, 0), {"a": "a", "b": "c"}))
 
 
 class Point_0_2(unittest.TestCase):
@@ -144,7 +197,7 @@ class Point_0_2(unittest.TestCase):
             self.assertEqual(passed, arguments())
             for call in asked(made):
                 lots = [argument for argument in call if isinstance(argument, (list, dict))]
-                before = copy.deepcopy(lots)
+                before = copied(lots)
                 spoil(answer(call))
                 self.assertEqual(lots, before)
 
@@ -248,21 +301,16 @@ class Point_0_6(unittest.TestCase, Telling):
 
 class Point_0_7(unittest.TestCase, Telling):
     def test_unlike_things_come_ahead_of_all_else(self):
+        one, other = even(2, 1), even(3, 1)
+        for call in (both, least_set, greatest_set, needed, possible):
+            self.raises(UnlikeThings(), call, one, other)
+        for call in (heaviest_both, split):
+            self.raises(UnlikeThings(), call, one, other, {}, None)
+            self.raises(BadWeights("a"), call, one, one, {}, None)
+            self.raises(BadNumber(None), call, one, one, {"a": 1, "b": 1}, None)
         self.raises(UnlikeThings(), alike, even(14, 2), even(13, 2))
         self.raises(UnlikeThings(), alike, even(13, 2), even(2, 2))
         self.raises(UnlikeThings(), is_across, over_two({"a": [1]}), over_whole({"b": [1]}))
-
-
-class RestRule:
-    """The rule of a family that is made out of another one, as those of later parts are."""
-
-    def __init__(self, family):
-        self.family = family
-        self.full = family.full_mask()
-        self.most = family.rank_of(self.full)
-
-    def rank_of(self, mask):
-        return f"{mask:b}".count("1") - self.most + self.family.rank_of(self.full - mask)
 
 
 class Point_0_8(unittest.TestCase):
@@ -270,7 +318,7 @@ class Point_0_8(unittest.TestCase):
         for first in (ties_family(triangle_web()), hires_family(bakers()), listed(*listed_arguments())):
             family = first
             for _ in range(60):
-                family = Family(family.things(), RestRule(family))
+                family = turned(family)
             self.assertIsNone(alike(family, first))
             thing = first.base()[0]
             for lot in free_lots(first):
@@ -297,7 +345,7 @@ class Point_0_8(unittest.TestCase):
         known = [lot for lot in known if len(lot) == 3]
         for _ in range(30):
             weights = {thing: chance.randint(0, 8) // 8 for thing in NAMES[:6]}
-            family = all_heaviest(Family(family.things(), RestRule(family)), weights)
+            family = all_heaviest(turned(family), weights)
             known = [[thing for thing in NAMES[:6] if thing not in lot] for lot in known]
             most = max(sum(weights[thing] for thing in lot) for lot in known)
             known = [lot for lot in known if sum(weights[thing] for thing in lot) == most]
@@ -308,7 +356,7 @@ class Point_0_8(unittest.TestCase):
         family = even(24, 12)
         for at in range(60):
             if at % 3 == 2:
-                family = Family(family.things(), RestRule(family))
+                family = turned(family)
             else:
                 # Weights that differ seldom leave many bases, and many parts ask for their ranks on the way down.
                 family = all_heaviest(family, {thing: chance.randint(0, 1) for thing in family.things()})
