@@ -3,6 +3,7 @@
 from bothfree.errors import BadLot, BadNumber, BadPlaces, BadThings, BadWeights
 
 LONGEST_NAME = 8
+MOST_THINGS = 24
 
 
 def is_integer(value):
@@ -59,6 +60,11 @@ def is_lot(value, things):
     if not isinstance(value, list):
         return False
     return first_wrong(value, lambda entry: isinstance(entry, str) and entry in things) is None
+
+
+def is_strings(value):
+    """Tell whether a value of any kind is a list of strings."""
+    return isinstance(value, list) and all([isinstance(entry, str) for entry in value])
 
 
 def check_weights(weights, things):

@@ -1,11 +1,10 @@
 """Counts: things in rooms, where a lot is free if no room has more things of it than its number tells."""
 
-from bothfree.checks import check_lot, first_wrong, is_integer, is_lot, sorted_things
+from bothfree.checks import MOST_THINGS, check_lot, first_wrong, is_integer, is_lot, sorted_things
 from bothfree.errors import BadRooms, CrossedRooms, NotFree
 from bothfree.families import Family
 from bothfree.masks import bits_of, outer_bits, size_of
 
-MOST_THINGS = 24
 MOST_ROOMS = 60
 
 
@@ -37,10 +36,15 @@ def _checked_rooms(rooms, things):
             raise BadRooms(index)
     for one, (lot, _) in enumerate(rooms):
         for other in range(one + 1, len(rooms)):
-            shared = [thing for thing in lot if thing in rooms[other][0]]
-            if shared and len(shared) not in (len(lot), len(rooms[other][0])):
+            if are_crossed(lot, rooms[other][0]):
                 raise CrossedRooms(one, other)
     return [(sorted(lot), number) for lot, number in rooms]
+
+
+def are_crossed(lot, other):
+    """Tell whether two lots share a thing and neither has all things of the other one."""
+    shared = _shared(lot, other)
+    return shared > 0 and shared not in (len(lot), len(other))
 
 
 def _is_room(value, things):

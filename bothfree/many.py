@@ -2,7 +2,7 @@
 
 from math import gcd
 
-from bothfree.checks import first_wrong, is_integer, is_lot, is_name
+from bothfree.checks import first_wrong, is_integer, is_lot, is_name, is_strings
 from bothfree.errors import BadNumber
 from bothfree.families import Family
 from bothfree.masks import bits_of, size_of
@@ -98,12 +98,7 @@ def pack_fault(family, k, lots):
 
 def _are_lists(value, k):
     """Tell whether a value of any kind is a list of k lists of strings."""
-    return isinstance(value, list) and len(value) == k and all([_is_list(part) for part in value])
-
-
-def _is_list(value):
-    """Tell whether a value of any kind is a list of strings."""
-    return isinstance(value, list) and all([isinstance(entry, str) for entry in value])
+    return isinstance(value, list) and len(value) == k and all([is_strings(part) for part in value])
 
 
 def _wrong_lot(family, lots, word):
@@ -270,7 +265,7 @@ def _is_fraction(value):
     p, q, lot, lots = value
     if not all([is_integer(part) and 1 <= part <= GREATEST_NUMBER for part in (p, q)]) or gcd(p, q) > 1:
         return False
-    return _is_list(lot) and _are_lists(lots, p)
+    return is_strings(lot) and _are_lists(lots, p)
 
 
 def _wrong_times(family, lots, fits):

@@ -6,14 +6,14 @@ from bothfree.families import Family
 from bothfree.hires import Hires, hire_most, hires_family
 from bothfree.rules import Chart, PartRule, TurnedRule
 
-MOST_PLACES = 24
+MOST_ROAD_PLACES = 24
 
 
 class Roads:
     """Places and the one-way steps between them; some places are doors, some are gates."""
 
     def __init__(self, places, steps, doors, gates):
-        self._places = sorted_places(places, MOST_PLACES)
+        self._places = sorted_places(places, MOST_ROAD_PLACES)
         self._steps = _checked_steps(steps, self._places)
         wrong = _wrong_place(doors, self._places)
         if wrong is not None:

@@ -1,13 +1,12 @@
 """Rows of integers, over two or over whole, where a lot of things is free if no sum of their rows is nought."""
 
-from bothfree.checks import check_lot, is_integer, is_name
+from bothfree.checks import MOST_THINGS, check_lot, is_integer, is_name
 from bothfree.errors import BadRows, InLot, NoThing, TooMany, UnlikeThings
 from bothfree.families import Family, ring_of
 from bothfree.masks import bits_of
 from bothfree.sums import (common_divisor, nought_terms, rank_over_two, rank_over_whole, rings_over_two,
                            rings_over_whole)
 
-MOST_THINGS = 24
 GREATEST_WIDTH = 24
 
 
@@ -51,13 +50,13 @@ def _checked_rows(rows, over):
     checked = {}
     things = sorted(rows)
     for thing in things:
-        if not is_name(thing) or not _is_row(rows[thing], over) or len(rows[thing]) != len(rows[things[0]]):
+        if not is_name(thing) or not is_row(rows[thing], over) or len(rows[thing]) != len(rows[things[0]]):
             raise BadRows(thing)
         checked[thing] = list(rows[thing])
     return checked
 
 
-def _is_row(value, over):
+def is_row(value, over):
     """Tell whether a value of any kind is a row over two, or over whole."""
     if not isinstance(value, list) or len(value) > GREATEST_WIDTH:
         return False

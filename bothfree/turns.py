@@ -1,13 +1,11 @@
 """Families that are made out of other families: turned, cut down, drawn in, joined, cut short and named."""
 
-from bothfree.checks import check_number, is_name, sorted_things
+from bothfree.checks import MOST_THINGS, check_number, is_name, sorted_things
 from bothfree.errors import BadNames, SameThing, TooMany
 from bothfree.families import Family, ring_of
 from bothfree.rows import Rows
 from bothfree.rules import Chart, CutRule, FreeRule, JoinedRule, PartRule, TurnedRule
 from bothfree.webs import ties_family
-
-MOST_THINGS = 24
 
 
 def turned(family):

@@ -5,7 +5,7 @@ from bothfree.errors import BadPlaces, BadTies, NoThing, TooMany
 from bothfree.families import Family
 from bothfree.masks import bits_of, outer_bits
 
-MOST_PLACES = 16
+MOST_WEB_PLACES = 16
 MOST_TIES = 24
 
 
@@ -13,7 +13,7 @@ class Web:
     """Places and the ties that join two of them, or one with itself."""
 
     def __init__(self, places, ties):
-        self._places = sorted_places(places, MOST_PLACES)
+        self._places = sorted_places(places, MOST_WEB_PLACES)
         self._ties = _checked_ties(ties, self._places)
 
     def places(self):

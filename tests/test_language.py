@@ -16,7 +16,7 @@ BUILTINS = set("""
     len range enumerate zip min max sum abs sorted reversed int str bool bytes list tuple dict set frozenset
     isinstance ord repr any all divmod iter next map Exception ValueError TypeError KeyError IndexError
     LookupError ZeroDivisionError ArithmeticError OverflowError RuntimeError NotImplementedError AttributeError
-    StopIteration NotImplemented
+    StopIteration NotImplemented property
 """.split())
 LIBRARY = {"heapq": {"heappush", "heappop", "heapify", "heapreplace", "heappushpop"},
            "math": {"gcd", "lcm", "isqrt", "comb", "perm", "factorial"},
@@ -120,7 +120,11 @@ class Language(unittest.TestCase):
 
     def test_l4_l5_l28_functions_and_methods(self):
         for at, node in nodes((ast.FunctionDef, ast.ClassDef)):
-            self.assertEqual([ast.unparse(part) for part in node.decorator_list], [], at)
+            told = [ast.unparse(part) for part in node.decorator_list]
+            self.assertIn(told, ([], ["property"]), at)
+            if told:
+                # A property only reads: it is one row that returns what its object holds.
+                self.assertEqual((parameters(node), len(node.body)), (["self"], 2), at)
         for at, node in nodes(ast.FunctionDef):
             if node.name.startswith("__"):
                 self.assertIn(node.name, DUNDERS, at)
@@ -213,6 +217,16 @@ class Language(unittest.TestCase):
             for sign, part in zip(node.ops, node.comparators):
                 if isinstance(sign, (ast.Is, ast.IsNot)):
                     self.assertIn(getattr(part, "value", 0), (None, True, False), at)
+
+    def test_l23_generators(self):
+        generators = {node.name for at, node in nodes(ast.FunctionDef)
+                      if any(isinstance(part, (ast.Yield, ast.YieldFrom)) for part in ast.walk(node))}
+        self.assertLessEqual(generators, {"worlds"})
+        names = [node.name for at, node in nodes(ast.FunctionDef)]
+        self.assertEqual([name for name in generators if names.count(name) > 1], [])
+        # The package itself does not call one.
+        for at, node in nodes(ast.Attribute):
+            self.assertNotIn(node.attr, generators, at)
 
     def test_l24_sets(self):
         for at, node in nodes(ast.For):
