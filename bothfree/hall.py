@@ -1,7 +1,7 @@
 """Halls: worlds that change by deeds, which can be undone and done again."""
 
 from bothfree.both import both
-from bothfree.counts import Counts, counts_family, over_full
+from bothfree.counts import counts_family, over_full
 from bothfree.deeds import world_behind
 from bothfree.errors import NothingToRedo, NothingToUndo
 from bothfree.game import who

@@ -5,9 +5,13 @@ import unittest
 from random import Random
 
 from bothfree.both import both, both_fault, chain_fault, extended, greatest_set, least_set, needed, possible
+from bothfree.chains import (count_swaps, distance, near_swaps, nearer_swaps, partners, partners_fault, swaps, swaps_fault,
+                             twin, twins)
 from bothfree.counts import Counts, counts_family, over_full, room_bound, room_fault, tight
 from bothfree.errors import BadLot, BadNumber, BadWeights, LotError, UnlikeThings
 from bothfree.families import alike, bases, free_lots, is_ring, listed, ring_of, rings
+from bothfree.game import Play, answer as answer_to, paper, paper_fault, who
+from bothfree.hall import Hall
 from bothfree.hires import Hires, hire, hire_most, hires_family, other_side, short
 from bothfree.many import (cover_fault, cover_paper, covered, fewest, is_cover_paper, is_pack_paper, most, pack_fault,
                            pack_paper, packed, parted, parted_paper, strength, strength_fault, thickness,
@@ -17,6 +21,8 @@ from bothfree.one import (all_heaviest, base_fault, free_fault, heaviest_base, h
 from bothfree.roads import Roads, cut_places, roads_family, turned_hires, ways, ways_most
 from bothfree.rows import Rows, is_across, rows_family, sum_fault, sum_of, turned_rows, written
 from bothfree.split import best_both, curve, heaviest_both, split, split_fault
+from bothfree.texts import (counts_text, family_text, hires_text, lot_text, read_lot, read_weights, roads_text, rows_text,
+                            weights_text, web_text, world_text)
 from bothfree.turns import cut_short, drawn_in, free_on, inside, joined, named, ring_rows, turned, web_rows, without
 from bothfree.webs import Web, cut_of, is_cut, pieces, ring_in, ties_family
 from tests.helpers import NAMES, Telling, bakers, crossing, even, lots_of, rooms, told, triangle_web
@@ -80,12 +86,12 @@ def over_two(table):
 
 def asked_of_web(web):
     """Return calls with their arguments; each list of arguments begins with the function."""
-    return [[web.places], [web.ties], [web.ends, "x"], [pieces, web, ["x", "l"]], [ring_in, web, ["z", "y", "x"]],
+    return [[web_text, web], [world_text, web], [web.places], [web.ties], [web.ends, "x"], [pieces, web, ["x", "l"]], [ring_in, web, ["z", "y", "x"]],
             [cut_of, web, ["b"]], [is_cut, web, ["y", "x"]], [lambda: web_rows(web).rows()], [lambda: ring_rows(web).rows()], *asked_of_family(ties_family(web), ["z", "x"], "y")]
 
 
 def asked_of_hires(hires):
-    return [[hires.people], [hires.jobs_of, "cat"], [hire, hires, ["cat", "bob"]],
+    return [[hires_text, hires], [world_text, hires], [hires.people], [hires.jobs_of, "cat"], [hire, hires, ["cat", "bob"]],
             [short, hires, ["cat", "bob", "ann"]], [hire_most, hires, ["cat", "bob", "ann"]],
             [lambda: told_of_hires(other_side(hires))],
             *asked_of_family(hires_family(hires), ["cat", "bob"], "ann")]
@@ -100,7 +106,8 @@ def asked_of_family(family, lot, thing):
             [family.base], [family.stuck], [family.sure], [ring_of, family, lot, thing], [is_ring, family, lot],
             [free_lots, family], [rings, family], [bases, family], [alike, family, even(len(family), 1)],
             *asked_of_weights(family, {name: at % 3 - 1 for at, name in enumerate(family.things())}, lot, thing),
-            *asked_of_turns(family, lot), *asked_of_two(family, turned(family), lot), *asked_of_many(family, lot)]
+            *asked_of_turns(family, lot), *asked_of_two(family, turned(family), lot), *asked_of_many(family, lot),
+            *asked_of_chains(family), *asked_of_game(family, thing), [family_text, family]]
 
 
 def asked_of_weights(family, weights, lot, thing):
@@ -142,21 +149,52 @@ def asked_of_many(family, lot):
             [thickness_fault, family, (1, 1, lot, [lot])], [strength_fault, family, (1, 1, lot, [lot])]]
 
 
+def asked_of_chains(family):
+    one = family.base()
+    other = heaviest_base(family, {thing: at for at, thing in enumerate(family.things())})
+    thing = one[0] if one else "q"
+    return [[distance, family, one, other], [near_swaps, family, one], [swaps, family, one, other],
+            [nearer_swaps, family, one, other], [swaps_fault, family, one, other, [(thing, thing)]],
+            [twin, family, one, other, thing], [twins, family, one, other, thing], [partners, family, one, other],
+            [partners_fault, family, one, other, {thing: thing}], [count_swaps, family, one, other]]
+
+
+def asked_of_game(family, mark):
+    told_paper = paper(family, mark)
+    other = [thing for thing in family.things() if thing != mark][0]
+    return [[who, family, mark], [paper, family, mark], [paper_fault, family, mark, told_paper],
+            [told_of_answer, family, mark, told_paper, other], [played, family, mark]]
+
+
+def told_of_answer(family, mark, given, thing):
+    reply, left, told_next = answer_to(family, mark, given, thing)
+    return reply, bases(left), told_next
+
+
+def played(family, mark):
+    play = Play(family, mark, "joiner")
+    found = []
+    for thing in reversed(play.left()):
+        found += [play.turn(), play.now(), play.best(), play.left(), play.winner()]
+        play.take(play.best() or thing if thing in play.left() else play.left()[0])
+    return found, play.taken("joiner"), play.taken("cutter"), play.winner()
+
+
 def asked_of_roads(roads):
-    return [[roads.places], [roads.steps], [roads.doors], [roads.gates], [ways, roads, ["b"]],
+    return [[roads_text, roads], [world_text, roads], [roads.places], [roads.steps], [roads.doors], [roads.gates], [ways, roads, ["b"]],
             [ways, roads, ["b", "a"]], [cut_places, roads, ["b", "a"]], [ways_most, roads, ["d", "b", "a"]],
             [lambda: told_of_hires(turned_hires(roads))], *asked_of_family(roads_family(roads), ["b"], "a")]
 
 
 def asked_of_rows(rows):
     given = sum_of(rows, rows.things())
-    return [[rows.things], [rows.rows], [rows.row, "b"], [rows.width], [rows.over], [sum_of, rows, ["c", "b", "a"]],
+    return [[rows_text, rows], [world_text, rows], [rows.things], [rows.rows], [rows.row, "b"], [rows.width], [rows.over], [sum_of, rows, ["c", "b", "a"]],
             [sum_fault, rows, ["c", "b", "a"], given], [written, rows, ["b", "a"], "c"], [is_across, rows, rows],
             [lambda: turned_rows(rows).rows()], *asked_of_family(rows_family(rows), ["b", "a"], "c")]
 
 
 def asked_of_counts(counts):
-    return [[counts.things], [counts.rooms], [over_full, counts, ["b", "a"]], [tight, counts, ["c", "a"]],
+    return [[counts_text, counts], [world_text, counts], [counts.things], [counts.rooms], [over_full, counts, ["b", "a"]], [tight, counts, ["c", "a"]],
             [room_bound, counts, ["c", "b", "a"]], [room_fault, counts, ["b", "c", "a"], ["c", "b"], [0]],
             *asked_of_family(counts_family(counts), ["c", "a"], "b")]
 
@@ -251,6 +289,39 @@ class Point_0_4(unittest.TestCase):
             hire_most(asked, lot)
         for lot in (["cat"], ["ann", "cat"], ["ann", "bob", "cat"]):
             self.assertEqual(hire_most(asked, lot), hire_most(bakers(), lot))
+
+
+class Point_0_4_of_what_changes(unittest.TestCase):
+    def test_equal_histories_tell_the_same(self):
+        steps = [("place", "d"), ("tie", "p", "d", "a"), ("untie", "x"), ("tie", "y", "a", "d")]
+        halls = [Hall(Web(*web_arguments())), Hall(Web(*turned_about(web_arguments())))]
+        for step in steps:
+            for hall in halls:
+                hall.do(step)
+            one, other = [[answer(call) for call in asked_of_hall(hall)] for hall in halls]
+            self.assertEqual(one, other)
+
+    def test_what_a_hall_tells_may_be_changed(self):
+        hall = Hall(Hires(*hires_arguments()))
+        hall.do(("jobs", "dan", ["bake", "cook"]))
+        before = [copied(answer(call)) for call in asked_of_hall(hall)]
+        for call in asked_of_hall(hall):
+            spoil(answer(call))
+        self.assertEqual([answer(call) for call in asked_of_hall(hall)], before)
+
+    def test_texts_of_lots_and_weights(self):
+        lot, weights = ["b", "a"], {"b": -1, "a": 2}
+        self.assertEqual((lot_text(lot), weights_text(weights), lot, weights), ("a b", "a=2 b=-1", ["b", "a"], {"b": -1, "a": 2}))
+        spoil(read_lot("a b"))
+        spoil(read_weights("a=2"))
+        self.assertEqual((read_lot("a b"), read_weights("a=2")), (["a", "b"], {"a": 2}))
+
+
+def asked_of_hall(hall):
+    things = hall.things()
+    return [[len, hall], [hall.record], [hall.things], [hall.base], [hall.stuck], [hall.sure], [hall.span, things[:1]],
+            [hall.why, things], [hall.best, dict.fromkeys(things, 1)], [hall.fewest], [hall.most], [hall.who, things[0]],
+            [hall.against, hall.world], [hall.moved], [hall.trial, [("undo",), ("redo",)]], [lambda: world_text(hall.world)]]
 
 
 def turned_about(arguments):

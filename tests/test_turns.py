@@ -5,11 +5,14 @@ from random import Random
 
 from bothfree.errors import BadLot, BadNames, BadNumber, BadThings, SameThing, TooMany
 from bothfree.families import Family, alike, bases, free_lots, rings
-from bothfree.rows import Rows, rows_family
+from bothfree.hires import hires_family
+from bothfree.roads import Roads, roads_family, turned_hires
+from bothfree.rows import Rows, rows_family, turned_rows
 from bothfree.turns import (cut_short, drawn_in, free_on, inside, joined, named, ring_rows, turned, web_rows,
                             without)
 from bothfree.webs import Web, is_cut, ties_family
-from tests.helpers import NAMES, ODD_VALUES, Telling, even, lots_of, nested, some_webs, triangle_web
+from tests.helpers import (NAMES, ODD_VALUES, Telling, even, lots_of, nested, some_roads, some_rows, some_webs,
+                           triangle_web)
 from tests.makings import rest_of, some_families
 
 
@@ -44,6 +47,15 @@ class Point_8_1(unittest.TestCase):
         for web in some_webs():
             told = [lot for lot in lots_of(web.ties()) if is_cut(web, lot)]
             self.assertEqual(rings(turned(ties_family(web))), told)
+
+
+    def test_worlds_of_the_turned_family(self):
+        # Points 4.6 and 5.5.
+        for roads in some_roads():
+            wide = Roads(roads.places(), roads.steps(), roads.places(), roads.gates())
+            self.assertIsNone(alike(turned(roads_family(wide)), hires_family(turned_hires(roads))))
+        for rows in some_rows():
+            self.assertIsNone(alike(turned(rows_family(rows)), rows_family(turned_rows(rows))))
 
 
 class Point_8_2(unittest.TestCase, Telling):
