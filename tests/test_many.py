@@ -268,6 +268,24 @@ class Point_11_5(unittest.TestCase):
             full = searched.rank(searched.things)
             self.assertEqual(most(family), packs[-1] if full else None)
 
+    def test_webs_with_thick_and_thin_places(self):
+        # Their numbers are come to by several papers, one after the other.
+        chance = Random(115)
+        for _ in range(120):
+            places = NAMES[:chance.randint(3, 8)]
+            ties = {name: tuple(chance.sample(places[:chance.randint(2, len(places))], 2)) for name in NAMES[:24]}
+            for family in (ties_family(Web(places, ties)), turned(ties_family(Web(places, ties)))):
+                k = fewest(family)
+                if k is not None:
+                    self.assertIsNone(cover_fault(family, k, covered(family, k)))
+                    self.assertTrue(is_cover_paper(family, k - 1, cover_paper(family, k - 1)))
+                    self.assertIsNone(thickness_fault(family, thickness(family)))
+                k = most(family)
+                if k is not None:
+                    self.assertIsNone(pack_fault(family, k, packed(family, k)))
+                    self.assertTrue(is_pack_paper(family, k + 1, pack_paper(family, k + 1)))
+                    self.assertIsNone(strength_fault(family, strength(family)))
+
     def test_edges(self):
         self.assertEqual((fewest(triangle()), most(triangle())), (2, 1))
         self.assertEqual((fewest(free_on([])), most(free_on([]))), (0, None))
